@@ -1,0 +1,1 @@
+"""How few people meet the needs of a round of hours."""
