@@ -1,7 +1,8 @@
 """Clocks: for how many hours those stay who begin at each hour of a round."""
 
-from hourneeds.errors import NoHour, Overtaken, Wrong
-from hourneeds.kinds import MOST_HOURS, is_hour, is_integer
+from hourneeds.errors import Overtaken, Wrong
+from hourneeds.kinds import MOST_HOURS, is_integer
+from hourneeds.rounds import check_hour, is_row, turned_row
 
 
 class Clock:
@@ -34,7 +35,7 @@ class Clock:
         return iter(self._stays)
 
     def __getitem__(self, at):
-        self._check_hour(at)
+        check_hour(len(self._stays), at)
         return self._stays[at]
 
     def __eq__(self, other):
@@ -50,18 +51,18 @@ class Clock:
 
     def served(self, hour):
         """The hours that one serves who begins at this hour, in the order of time."""
-        self._check_hour(hour)
+        check_hour(len(self._stays), hour)
         return [at % self.hours for at in range(hour, hour + self._stays[hour])]
 
     def serving(self, hour):
         """The hours of the window of this hour, in the order of time, itself last."""
-        self._check_hour(hour)
+        check_hour(len(self._stays), hour)
         first = hour - _width(self._stays, hour) + 1
         return [at % self.hours for at in range(first, hour + 1)]
 
     def with_stay(self, hour, stay):
         """The Clock with another stay for an hour."""
-        self._check_hour(hour)
+        check_hour(len(self._stays), hour)
         if not _is_from_one(self.hours, stay):
             raise Wrong(1)
         changed = list(self._stays)
@@ -70,16 +71,11 @@ class Clock:
 
     def turned(self, by):
         """The Clock seen from hour by on: its hour 0 is the hour by of this one."""
-        first = by % self.hours
-        return Clock(self._stays[first:] + self._stays[:first])
+        return Clock(turned_row(self._stays, by))
 
     def mirrored(self):
         """The Clock in which time goes back."""
         return Clock(self.widths()[::-1])
-
-    def _check_hour(self, hour):
-        if not is_hour(len(self._stays), hour):
-            raise NoHour(hour)
 
 
 def _is_from_one(most, thing):
@@ -87,9 +83,7 @@ def _is_from_one(most, thing):
 
 
 def _are_stays(thing):
-    if not isinstance(thing, (list, tuple)) or not 1 <= len(thing) <= MOST_HOURS:
-        return False
-    return all([_is_from_one(len(thing), item) for item in thing])
+    return is_row(thing) and all([_is_from_one(len(thing), item) for item in thing])
 
 
 def _check_nobody_overtaken(stays):

@@ -5,54 +5,10 @@ from itertools import product
 
 from hourneeds.clocks import Clock
 from hourneeds.errors import NoHour, Overtaken, Wrong
-from odd_values import GREAT, nested, odd_values
-
-TURNS = [*range(-12, 13), 48, -48, 10 ** 40, -(10 ** 40), GREAT, -GREAT]
+from helpers import GREAT, TURNS, Case, falling_clock, nested, odd_values, overtaken, rows, serving_of, small_clocks
 
 
-def rows(hours):
-    """All rows of so many integers from 1 to hours."""
-    return product(range(1, hours + 1), repeat=hours)
-
-
-def overtaken(stays):
-    """All hours whose stay is more than 1 greater than that of the next hour."""
-    return [hour for hour in range(len(stays)) if stays[hour] - stays[(hour + 1) % len(stays)] > 1]
-
-
-def small_clocks():
-    """The stays of all clocks of one to five hours."""
-    return [list(row) for hours in range(1, 6) for row in rows(hours) if not overtaken(row)]
-
-
-def serving_of(stays, hour):
-    """The window of an hour, found by asking for whom the hour is among those served."""
-    hours = len(stays)
-    found = []
-    for back in range(hours):
-        begun = (hour - back) % hours
-        if hour in [(begun + later) % hours for later in range(stays[begun])]:
-            found.append(begun)
-    return found[::-1]
-
-
-def falling_clock(hours):
-    """A clock in which all leave at the end of the day."""
-    return Clock([hours - hour for hour in range(hours)])
-
-
-class ClockTest(unittest.TestCase):
-    def raises(self, error, act, **kept):
-        """Checks that act raises just this error, which keeps just these very objects."""
-        with self.assertRaises(error) as context:
-            act()
-        self.assertIs(context.exception.__class__, error)
-        self.assertEqual(sorted(vars(context.exception)), sorted(kept))
-        for name, value in kept.items():
-            self.assertIs(getattr(context.exception, name), value)
-
-
-class Made(ClockTest):
+class Made(Case):
     def test_all_small_rows(self):
         for hours in range(1, 6):
             for row in rows(hours):
@@ -111,7 +67,7 @@ class Made(ClockTest):
         self.raises(Overtaken, lambda: Clock([1, 2, 3, 3]), hour=3)
 
 
-class Copied(ClockTest):
+class Copied(Case):
     def test_the_row_may_be_changed_behind(self):
         stays = [3, 2, 1]
         clock = Clock(stays)
@@ -144,7 +100,7 @@ class Copied(ClockTest):
         self.assertEqual([clock.widths(), clock.served(0), clock.serving(2)], [[1, 2, 3], [0, 1, 2], [0, 1, 2]])
 
 
-class Asked(ClockTest):
+class Asked(Case):
     def check(self, stays):
         clock, hours = Clock(stays), len(stays)
         self.assertEqual([clock.hours, len(clock)], [hours, hours])
@@ -205,7 +161,7 @@ class Asked(ClockTest):
         self.assertIsInstance(vars(Clock)["even"], staticmethod)
 
 
-class WithStay(ClockTest):
+class WithStay(Case):
     def test_all_small_clocks(self):
         for before in small_clocks():
             clock, hours = Clock(before), len(before)
@@ -251,7 +207,7 @@ class WithStay(ClockTest):
         self.assertEqual(clock.with_stay(1, 2), clock)
 
 
-class Turned(ClockTest):
+class Turned(Case):
     def test_by_integers_of_either_sign(self):
         for stays in small_clocks():
             clock, hours = Clock(stays), len(stays)
@@ -280,7 +236,7 @@ class Turned(ClockTest):
         self.assertEqual(clock.turned(48 * 10 ** 38 + 5), clock.turned(5))
 
 
-class Mirrored(ClockTest):
+class Mirrored(Case):
     def test_all_small_clocks(self):
         for stays in small_clocks():
             clock, last = Clock(stays), len(stays) - 1
@@ -301,7 +257,7 @@ class Mirrored(ClockTest):
             self.assertEqual(clock.mirrored().mirrored(), clock)
 
 
-class Even(ClockTest):
+class Even(Case):
     def test_all_stay_so_long(self):
         for hours in range(1, 49):
             for stay in range(1, hours + 1):
@@ -324,7 +280,7 @@ class Even(ClockTest):
                 self.raises(Wrong, lambda: Clock.even(hours, stay), place=1)
 
 
-class Equal(ClockTest):
+class Equal(Case):
     def test_clocks_with_equal_and_unlike_stays(self):
         told = [stays for stays in small_clocks() if len(stays) <= 4]
         for one, other in product(told, told):

@@ -5,7 +5,7 @@ import unittest
 
 from hourneeds import errors
 from hourneeds.errors import NeedError
-from odd_values import GREAT, odd_values
+from helpers import GREAT, odd_values
 
 SIGNATURES = {
     "Wrong": ["place"],

@@ -11,6 +11,21 @@ EXAMPLES = """
 [[1, 2, 3], [1, 2], [0, 1, 2], 3, [3, 2, 1]]
 >>> [Clock.even(3, 2) == Clock([2, 2, 2]), falling.turned(1).stays(), falling.mirrored() == falling]
 [True, [2, 1, 3], True]
+>>> from hourneeds.needs import Needs
+>>> from hourneeds.plans import Plan
+>>> wants = Needs([2, 1, 2, 1])
+>>> [(2 * wants).total, list(wants << 1), wants.within(Needs([2, 2, 2, 2])), (wants | Needs([0, 3, 0, 0]))[1]]
+[12, [1, 2, 1, 2], True, 3]
+>>> four, plan, other = Clock.even(4, 2), Plan([2, 0, 2, 0]), Plan([1, 1, 1, 1])
+>>> [plan.there(four), plan.sums(), plan & other == other, other.within(plan), list(plan.later(0)), plan.is_enough(four, wants)]
+[[2, 2, 2, 2], [0, 2, 2, 4, 4], True, True, [1, 1, 2, 0], True]
+>>> from hourneeds.fewest import fewest
+>>> from hourneeds.rings import bound, step_hours, winds
+>>> [step_hours(four, 0, 2), step_hours(four, 0, 1), step_hours(falling, 0, 2), winds(four, [0, 2]), winds(four, [0, 1, 2, 3]), bound(four, wants, [0, 2]), fewest(four, wants)]
+[2, 5, 5, 1, 5, 4, 4]
+>>> three, ones = Clock.even(3, 2), Needs([1, 1, 1])
+>>> [winds(three, [0, 2, 1]), bound(three, ones, [0, 2, 1]), fewest(three, ones)]
+[2, 2, 2]
 """
 
 

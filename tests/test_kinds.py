@@ -4,7 +4,7 @@ import unittest
 from math import gcd
 
 from hourneeds.kinds import are_counts, are_limits, is_count, is_fraction, is_hour, is_integer
-from odd_values import GREAT, nested, odd_values
+from helpers import GREAT, nested, odd_values
 
 COUNTS = [0, 1, 2, 47, 48, 10 ** 30, GREAT]
 BELOW = [-1, -2, -48, -(10 ** 30), -GREAT]
