@@ -5,6 +5,7 @@ from itertools import product
 
 from hourneeds.clocks import Clock
 from hourneeds.errors import NeedError, NoHour, Wrong
+from hourneeds.houses import House
 from hourneeds.needs import Needs
 from hourneeds.plans import Plan
 
@@ -59,6 +60,7 @@ def odd_values():
         [-1], (-1,), nested(60, list), nested(60, tuple), nested(60, lambda items: {0: items[0]}),
         "x" * 20000, [None] * 19999, tuple([True] * 19999), {number: None for number in range(9999)},
         Clock([1]), [Clock([2, 1])], NeedError("x"), Needs([1]), [Needs([0])], Plan([1]), (Plan([0]), 0),
+        House(Clock([1]), Needs([1])), [House(Clock([1]), Needs([0]), doors=[0])],
     ]
 
 

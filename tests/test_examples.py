@@ -26,6 +26,20 @@ EXAMPLES = """
 >>> three, ones = Clock.even(3, 2), Needs([1, 1, 1])
 >>> [winds(three, [0, 2, 1]), bound(three, ones, [0, 2, 1]), fewest(three, ones)]
 [2, 2, 2]
+>>> from hourneeds.houses import House
+>>> from hourneeds.people import are_stuck, is_possible, least_people, most_people
+>>> from hourneeds.ways import bound_of, ring_way, steps, told, turns
+>>> house, packed = House(three, ones), House(three, ones, rooms=[1, 1, 1])
+>>> [steps(house)[2:4], told(house, ("need", 0)), least_people(house), most_people(house)]
+[[('keep', 2), ('need', 0)], (2, 1, 2, 1), 2, None]
+>>> needed, roomed = [("need", 0), ("need", 2), ("need", 1)], [("room", 2), ("room", 0), ("room", 1)]
+>>> [turns(packed, needed), turns(packed, roomed), bound_of(packed, needed), bound_of(packed, roomed), are_stuck(packed, [needed, roomed])]
+[2, -2, 2, 1, True]
+>>> [ring_way(house, [0]), is_possible(house, 1), packed.allows(Plan([1, 0, 0])), packed.broken(Plan([1, 0, 0]))]
+[[('keep', 1), ('need', 0)], False, False, [('need', 2)]]
+>>> from hourneeds.sums import earliest, latest, sum_ranges
+>>> [list(earliest(house, 2)), list(latest(house, 2)), sum_ranges(house, 2)]
+[[1, 1, 0], [0, 1, 1], [(0, 0), (0, 1), (1, 2), (2, 2)]]
 """
 
 

@@ -1,0 +1,135 @@
+"""The numbers of people of the plans of a house, shown by plans and by ways.
+
+The sums of a plan keep a house just if no step asks more of a mark than it has. So a number
+of people is possible just if the marks can be settled with it; else steps that raise one
+another for ever are a way against it.
+"""
+
+from hourneeds.errors import Impossible, Stuck
+from hourneeds.plans import Plan
+from hourneeds.rounds import settle
+from hourneeds.ways import bound_of, is_way, links_of, turns, value
+
+
+def least_people(house):
+    """The least number of people of a plan of the house."""
+    possible = _some_people(house)
+    # No plan has fewer people than must begin.
+    least = sum(house.kept())
+    while least < possible:
+        middle = (least + possible) // 2
+        way = way_against(house, middle)
+        if way is None:
+            possible = middle
+        else:
+            least = bound_of(house, way)
+    return least
+
+
+def most_people(house):
+    """The greatest number of people of a plan of the house, or None if there is none."""
+    possible = _some_people(house)
+    way = way_against(house, _beyond(house))
+    if way is None:
+        return None
+    most = bound_of(house, way)
+    while possible < most:
+        middle = (possible + most + 1) // 2
+        way = way_against(house, middle)
+        if way is None:
+            possible = middle
+        else:
+            most = bound_of(house, way)
+    return most
+
+
+def stuck(house):
+    """A list of ways which shows that the house has no plan, or None if it has one."""
+    try:
+        _some_people(house)
+    except Stuck as error:
+        return error.ways
+    return None
+
+
+def are_stuck(house, thing):
+    """Whether thing, any value, is a list of ways which shows that the house has no plan."""
+    if not isinstance(thing, list) or len(thing) not in (1, 2):
+        return False
+    if not all([is_way(house, way) for way in thing]):
+        return False
+    if len(thing) == 1:
+        return turns(house, thing[0]) == 0 and value(house, thing[0]) > 0
+    forth, back = thing
+    if turns(house, forth) <= 0 or turns(house, back) >= 0:
+        return False
+    return bound_of(house, forth) > bound_of(house, back)
+
+
+def is_possible(house, people):
+    """Whether the house has a plan with so many people."""
+    return way_against(house, people) is None
+
+
+def some_plan(house, people):
+    """A Plan of the house with so many people."""
+    check_possible(house, people)
+    return plan_meeting(house, people, [])
+
+
+def way_against(house, people):
+    """A way whose value is greater than its turns times people, or None if there is a plan with so many."""
+    return settle(links_of(house), people, [0] * house.hours)[1]
+
+
+def is_against(house, people, thing):
+    """Whether thing, any value, is a way whose value is greater than its turns times people."""
+    return is_way(house, thing) and value(house, thing) > turns(house, thing) * people
+
+
+def check_possible(house, people):
+    """Raises Impossible unless the house has a plan with so many people."""
+    way = way_against(house, people)
+    if way is not None:
+        raise Impossible(way)
+
+
+def plan_meeting(house, people, links):
+    """A Plan of the house with so many people that meets these links [rounds], too, where there is one."""
+    reached = settle(links_of(house) + links, people, [0] * house.hours)[0]
+    return Plan.of_sums([mark - reached[0] for mark in reached] + [people])
+
+
+def _some_people(house):
+    """A number of people that is possible; raises Stuck if there is none."""
+    people = _beyond(house)
+    forth, back = [("keep", hour) for hour in range(house.hours)], None
+    way = way_against(house, people)
+    while way is not None:
+        round_about = turns(house, way)
+        if round_about == 0:
+            raise Stuck([way])
+        # The first way, which is against so many people, cannot have turns above 0.
+        if round_about > 0:
+            forth = way
+        else:
+            back = way
+        people = _people_between(house, forth, back)
+        way = way_against(house, people)
+    return people
+
+
+def _people_between(house, forth, back):
+    """The middle of the numbers that two ways leave; raises Stuck if they leave none."""
+    least, most = bound_of(house, forth), bound_of(house, back)
+    if least > most:
+        raise Stuck([forth, back])
+    return (least + most) // 2
+
+
+def _beyond(house):
+    """So many people that no way with turns above 0 is against them, and each with turns below 0 is.
+
+    So it is of ways that come to no mark twice, as those of way_against are.
+    """
+    return 1 + sum([abs(link[3]) for link in links_of(house)])
