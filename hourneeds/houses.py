@@ -79,7 +79,7 @@ class House:
 
     def with_limit(self, word, hour, number):
         """The House with another limit: a need, a room, a number of kept begins or a door."""
-        if not isinstance(word, str) or word not in WORDS or not is_hour(self.hours, hour):
+        if word not in WORDS or not is_hour(self.hours, hour):
             raise NoStep((word, hour))
         if not is_count(number) and (number is not None or word not in WORDS_OF_NONE):
             raise Wrong(2)

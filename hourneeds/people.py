@@ -13,17 +13,8 @@ from hourneeds.ways import bound_of, is_way, links_of, turns, value
 
 def least_people(house):
     """The least number of people of a plan of the house."""
-    possible = _some_people(house)
     # No plan has fewer people than must begin.
-    least = sum(house.kept())
-    while least < possible:
-        middle = (least + possible) // 2
-        way = way_against(house, middle)
-        if way is None:
-            possible = middle
-        else:
-            least = bound_of(house, way)
-    return least
+    return _nearest_possible(house, _some_people(house), sum(house.kept()))
 
 
 def most_people(house):
@@ -32,15 +23,7 @@ def most_people(house):
     way = way_against(house, _beyond(house))
     if way is None:
         return None
-    most = bound_of(house, way)
-    while possible < most:
-        middle = (possible + most + 1) // 2
-        way = way_against(house, middle)
-        if way is None:
-            possible = middle
-        else:
-            most = bound_of(house, way)
-    return most
+    return _nearest_possible(house, possible, bound_of(house, way))
 
 
 def stuck(house):
@@ -98,6 +81,19 @@ def plan_meeting(house, people, links):
     """A Plan of the house with so many people that meets these links [rounds], too, where there is one."""
     reached = settle(links_of(house) + links, people, [0] * house.hours)[0]
     return Plan.of_sums([mark - reached[0] for mark in reached] + [people])
+
+
+def _nearest_possible(house, possible, bound):
+    """The possible number of people nearest to a bound, found from a possible one on by halving."""
+    while possible != bound:
+        half = abs(bound - possible) // 2
+        middle = bound - half if bound > possible else bound + half
+        way = way_against(house, middle)
+        if way is None:
+            possible = middle
+        else:
+            bound = bound_of(house, way)
+    return possible
 
 
 def _some_people(house):

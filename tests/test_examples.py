@@ -40,6 +40,19 @@ EXAMPLES = """
 >>> from hourneeds.sums import earliest, latest, sum_ranges
 >>> [list(earliest(house, 2)), list(latest(house, 2)), sum_ranges(house, 2)]
 [[1, 1, 0], [0, 1, 1], [(0, 0), (0, 1), (1, 2), (2, 2)]]
+>>> from hourneeds.spans import begin_range, is_only, span_range, there_range
+>>> [begin_range(house, 2, 0), there_range(house, 2, 1), span_range(house, 2, 2, 3), is_only(house, 2)]
+[(0, 1), (1, 2), (2, 2), False]
+>>> from hourneeds.changes import binding, free_need, more_for, stay_gain
+>>> from hourneeds.listing import count_plans, plan_at, plans
+>>> [count_plans(house, 2), list(plan_at(house, 2, 0)), [list(one) for one in plans(house, 2)][1:]]
+[3, [0, 1, 1], [[1, 0, 1], [1, 1, 0]]]
+>>> [more_for(house, "need", 0, 3), free_need(house, 0), binding(house), stay_gain(house, 0)]
+[1, 2, [0, 1, 2], 1]
+>>> from hourneeds.costs import cheap_people, cheap_plan, cost_of, least_cost
+>>> dues = [1, 5, 1]
+>>> [cost_of(Plan([1, 1, 0]), dues), least_cost(house, 2, dues), list(cheap_plan(house, 2, dues)), cheap_people(house, dues)]
+[6, 2, [1, 0, 1], 2]
 """
 
 

@@ -66,31 +66,22 @@ class Small(HouseCase):
 
 
 class Great(HouseCase):
-    def check_least(self, limits, people, plan):
-        """Checks that no sum of a plan can be less: steps that are just met lead from mark 0 to each mark."""
-        hours, sums = len(limits[0]), plan.sums()
-        reached, new = {0}, [0]
-        while new:
-            mark = new.pop()
-            for first, last, length, number in table_of(limits).values():
-                # The last mark behind as much of the way round as the step goes.
-                days = (first + length - last) // hours
-                if first == mark and last not in reached and sums[last] + days * people - sums[first] == number:
-                    reached.add(last)
-                    new.append(last)
-        self.assertEqual(reached, set(range(hours)))
+    def check_led(self, limits, people, plan, first, last):
+        """Checks that steps that the plan just meets lead between mark 0 and each mark.
 
-    def check_greatest(self, limits, people, plan):
-        """Checks that no sum can be greater: steps that are just met lead from each mark to mark 0."""
+        First and last are 0 and 1 if they lead from mark 0, so that no sum can be less, and 1 and 0
+        if they lead to it, so that none can be greater.
+        """
         hours, sums = len(limits[0]), plan.sums()
         reached, new = {0}, [0]
         while new:
             mark = new.pop()
-            for first, last, length, number in table_of(limits).values():
-                days = (first + length - last) // hours
-                if last == mark and first not in reached and sums[last] + days * people - sums[first] == number:
-                    reached.add(first)
-                    new.append(first)
+            for step in table_of(limits).values():
+                days = (step[0] + step[2] - step[1]) // hours
+                met = sums[step[1]] + days * people - sums[step[0]] == step[3]
+                if met and step[first] == mark and step[last] not in reached:
+                    reached.add(step[last])
+                    new.append(step[last])
         self.assertEqual(reached, set(range(hours)))
 
     def check(self, limits):
@@ -104,8 +95,8 @@ class Great(HouseCase):
             late, early = latest(house, people), earliest(house, people)
             for plan in (late, early):
                 self.is_plan(limits, people, plan)
-            self.check_least(limits, people, late)
-            self.check_greatest(limits, people, early)
+            self.check_led(limits, people, late, 0, 1)
+            self.check_led(limits, people, early, 1, 0)
             self.assertEqual(sum_ranges(house, people), list(zip(late.sums(), early.sums())))
         if least > 0:
             for act in (latest, earliest, sum_ranges):
