@@ -78,6 +78,13 @@ class MoreFor(HouseCase):
         self.assertEqual([more_for(closed, "door", 0, number) for number in (None, 1, 3)], [-1, -1, -1])
         self.assertEqual([more_for(closed, "door", 1, number) for number in (None, 0)], [0, None])
 
+    def test_a_room_may_make_the_least_number_grow_or_fall(self):
+        limits = [2, 2, 3, 3], [1, 0, 2, 0], [1, None, None, 1], [0] * 4, [None] * 4
+        self.assertEqual([least_of(limits), least_of(with_row(limits, 2, 3, 0))], [2, 3])
+        self.assertEqual([more_for(made(limits), "room", 3, number) for number in (None, 2, 1, 0)], [0, 0, 0, 1])
+        lower = made(limits).with_limit("room", 3, 0)
+        self.assertEqual([more_for(lower, "room", 3, number) for number in (None, 1, 0)], [-1, -1, 0])
+
     def test_no_step_then_wrong_2_then_stuck(self):
         for limits in (even_limits(3, 2, 1), PACKED):
             house = made(limits)
@@ -125,6 +132,12 @@ class StayGain(HouseCase):
     def test_none_where_no_plan_is_left(self):
         house = made(([1, 1], [1, 1], [1, 1], [1, 1], [None, None]))
         self.assertEqual([least_people(house), stay_gain(house, 0), stay_gain(house, 1)], [2, None, None])
+
+    def test_below_0_where_it_grows(self):
+        # Who is kept at hour 2 would then fill the room of hour 4: nobody could serve the hours 3 to 0 any more.
+        limits = [1, 3, 2, 3, 2], [1, 0, 0, 2, 0], [None] * 4 + [1], [0, 0, 1, 0, 0], [None] * 5
+        self.assertEqual([least_of(limits), least_of(with_row(limits, 0, 2, 3))], [2, 3])
+        self.assertEqual(stay_gain(made(limits), 2), -1)
 
     def test_no_hour_then_stuck(self):
         for limits in (even_limits(3, 2, 1), PACKED):
