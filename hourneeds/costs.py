@@ -26,7 +26,7 @@ def cheap_plan(house, people, dues):
     """A Plan of the house with so many people that costs the least."""
     check_possible(house, people)
     links = links_of(house)
-    loads = _best_loads(links, people, dues)
+    loads = best_loads(links, people, dues)
     bearing = [link for link, load in zip(links, loads) if load > 0]
     # Turned round, a link asks that no more is reached than it asks for.
     just = [(last, first, -days, -number, step) for first, last, days, number, step in bearing]
@@ -48,7 +48,7 @@ def cheap_people(house, dues):
     return least
 
 
-def _best_loads(links, people, dues):
+def best_loads(links, people, dues):
     """What each link bears, so that the loads are worth the most with so many people."""
     loads = [0] * len(links)
     # So much more has to come to each mark than goes from it.

@@ -37,15 +37,9 @@ def stuck(house):
 
 def are_stuck(house, thing):
     """Whether thing, any value, is a list of ways which shows that the house has no plan."""
-    if not isinstance(thing, list) or len(thing) not in (1, 2):
-        return False
-    if not all([is_way(house, way) for way in thing]):
-        return False
-    if len(thing) == 1:
-        return turns(house, thing[0]) == 0 and value(house, thing[0]) > 0
+    if not are_forth_and_back(house, thing):
+        return is_shown_by_one(house, thing)
     forth, back = thing
-    if turns(house, forth) <= 0 or turns(house, back) >= 0:
-        return False
     return bound_of(house, forth) > bound_of(house, back)
 
 
@@ -68,6 +62,23 @@ def way_against(house, people):
 def is_against(house, people, thing):
     """Whether thing, any value, is a way whose value is greater than its turns times people."""
     return is_way(house, thing) and value(house, thing) > turns(house, thing) * people
+
+
+def are_forth_and_back(house, thing):
+    """Whether thing, any value, is a list of two ways, with turns above 0 and with turns below 0."""
+    if not isinstance(thing, list) or len(thing) != 2:
+        return False
+    if not all([is_way(house, way) for way in thing]):
+        return False
+    forth, back = thing
+    return turns(house, forth) > 0 and turns(house, back) < 0
+
+
+def is_shown_by_one(house, thing):
+    """Whether thing, any value, is a list of one way with turns of 0 and a value above 0."""
+    if not isinstance(thing, list) or len(thing) != 1 or not is_way(house, thing[0]):
+        return False
+    return turns(house, thing[0]) == 0 and value(house, thing[0]) > 0
 
 
 def check_possible(house, people):

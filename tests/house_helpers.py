@@ -4,6 +4,7 @@ Limits are a tuple (stays, needs, rooms, kept, doors) of lists, with None in roo
 where there is no such limit.
 """
 
+from fractions import Fraction
 from random import Random
 
 from hourneeds.clocks import Clock
@@ -103,6 +104,41 @@ def simple_ways(limits):
     return found
 
 
+def paces_of(limits):
+    """The least and the greatest pace that the simple ways leave, perhaps None, and whether one shows that none is left."""
+    least, most, alone = None, None, False
+    for way in simple_ways(limits):
+        days, worth = turns_and_value(limits, way)
+        if days > 0 and (least is None or Fraction(worth, days) > least):
+            least = Fraction(worth, days)
+        elif days < 0 and (most is None or Fraction(worth, days) < most):
+            most = Fraction(worth, days)
+        elif days == 0 and worth > 0:
+            alone = True
+    return least, most, alone
+
+
+def reached_by(limits, pace):
+    """What walks from mark 0 reach at most at each mark at a pace, a Fraction, or None if some go on for ever."""
+    hours = len(limits[0])
+    asking = [(first, last, number - (first + length - last) // hours * pace)
+              for first, last, length, number in table_of(limits).values()]
+    reached = {0: Fraction(0)}
+    for _ in range(hours + 1):
+        before = dict(reached)
+        for first, last, number in asking:
+            if first in before and (last not in reached or before[first] + number > reached[last]):
+                reached[last] = before[first] + number
+        if reached == before:
+            return reached
+    return None
+
+
+def as_tuple(fraction):
+    """A Fraction as the tuple of its integers, and None as None."""
+    return None if fraction is None else (fraction.numerator, fraction.denominator)
+
+
 def drawn_limits(source, hours, most, loose, open_some=True):
     """Limits around a plan that source draws, each so much looser at most; some of rooms and doors are open.
 
@@ -199,6 +235,19 @@ class HouseCase(Case):
         self.assertTrue(forth > 0 > back)
         self.assertGreater(-(-needed // forth), allowed // back)
 
+    def shows_never(self, limits, ways):
+        self.assertIs(ways.__class__, list)
+        self.assertIn(len(ways), (1, 2))
+        self.assertTrue(all(len(way) <= 2000 for way in ways))
+        told = [turns_and_value(limits, way) for way in ways]
+        if len(ways) == 1:
+            self.assertEqual(told[0][0], 0)
+            self.assertGreater(told[0][1], 0)
+            return
+        (forth, needed), (back, allowed) = told
+        self.assertTrue(forth > 0 > back)
+        self.assertGreater(Fraction(needed, forth), Fraction(allowed, back))
+
     def raised(self, error, act):
         """The error that act raises, which is just of this class."""
         with self.assertRaises(error) as context:
@@ -217,3 +266,9 @@ class HouseCase(Case):
         raised = self.raised(error, act)
         self.assertEqual(list(vars(raised)), ["ways"])
         self.shows_stuck(limits, raised.ways)
+
+    def never(self, error, limits, act):
+        """Checks that act raises Never with ways that show it."""
+        raised = self.raised(error, act)
+        self.assertEqual(list(vars(raised)), ["ways"])
+        self.shows_never(limits, raised.ways)

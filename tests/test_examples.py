@@ -37,10 +37,10 @@ EXAMPLES = """
 [2, -2, 2, 1, True]
 >>> [ring_way(house, [0]), is_possible(house, 1), packed.allows(Plan([1, 0, 0])), packed.broken(Plan([1, 0, 0]))]
 [[('keep', 1), ('need', 0)], False, False, [('need', 2)]]
+>>> from hourneeds.spans import begin_range, is_only, span_range, there_range
 >>> from hourneeds.sums import earliest, latest, sum_ranges
 >>> [list(earliest(house, 2)), list(latest(house, 2)), sum_ranges(house, 2)]
 [[1, 1, 0], [0, 1, 1], [(0, 0), (0, 1), (1, 2), (2, 2)]]
->>> from hourneeds.spans import begin_range, is_only, span_range, there_range
 >>> [begin_range(house, 2, 0), there_range(house, 2, 1), span_range(house, 2, 2, 3), is_only(house, 2)]
 [(0, 1), (1, 2), (2, 2), False]
 >>> from hourneeds.changes import binding, free_need, more_for, stay_gain
@@ -50,9 +50,22 @@ EXAMPLES = """
 >>> [more_for(house, "need", 0, 3), free_need(house, 0), binding(house), stay_gain(house, 0)]
 [1, 2, [0, 1, 2], 1]
 >>> from hourneeds.costs import cheap_people, cheap_plan, cost_of, least_cost
->>> dues = [1, 5, 1]
+>>> from hourneeds.prices import are_prices, worth
+>>> dues, prices = [1, 5, 1], ([0, 0, 0], [0, 0, 0], [0, 4, 0], [0, 0, 0], 1)
 >>> [cost_of(Plan([1, 1, 0]), dues), least_cost(house, 2, dues), list(cheap_plan(house, 2, dues)), cheap_people(house, dues)]
 [6, 2, [1, 0, 1], 2]
+>>> [are_prices(house, dues, prices), worth(house, 2, prices)]
+[True, 2]
+>>> from hourneeds.days import days_people, fewest_days, in_days
+>>> from hourneeds.endless import Endless
+>>> from hourneeds.paces import least_pace, most_pace
+>>> [least_pace(house), most_pace(house), most_pace(packed), days_people(house, 2), days_people(house, 10 ** 30 + 1)]
+[(3, 2), None, (3, 2), (3, None), (1500000000000000000000000000002, None)]
+>>> [fewest_days(packed), least_people(in_days(packed, 2))]
+[2, 3]
+>>> ever = Endless(packed, (3, 2))
+>>> [[ever(hour) for hour in range(-3, 6)], ever.sum_to(-3), ever(10 ** 30), ever.period, list(ever.plan())]
+[[0, 1, 0, 1, 0, 1, 0, 1, 0], -1, 1, 2, [1, 0, 1, 0, 1, 0]]
 """
 
 
