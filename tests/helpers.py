@@ -3,7 +3,9 @@
 import unittest
 from itertools import product
 
+from hourneeds.books import Book
 from hourneeds.clocks import Clock
+from hourneeds.desk import Desk
 from hourneeds.endless import Endless
 from hourneeds.errors import NeedError, NoHour, Wrong
 from hourneeds.houses import House
@@ -62,7 +64,8 @@ def odd_values():
         "x" * 20000, [None] * 19999, tuple([True] * 19999), {number: None for number in range(9999)},
         Clock([1]), [Clock([2, 1])], NeedError("x"), Needs([1]), [Needs([0])], Plan([1]), (Plan([0]), 0),
         House(Clock([1]), Needs([1])), [House(Clock([1]), Needs([0]), doors=[0])],
-        Endless(House(Clock([1]), Needs([1])), (1, 1)),
+        Endless(House(Clock([1]), Needs([1])), (1, 1)), Book(House(Clock([1]), Needs([1]))),
+        Desk(House(Clock([1]), Needs([1]))),
     ]
 
 

@@ -5,6 +5,7 @@ where there is no such limit.
 """
 
 from fractions import Fraction
+from math import ceil, floor
 from random import Random
 
 from hourneeds.clocks import Clock
@@ -223,19 +224,13 @@ class HouseCase(Case):
         self.assertGreater(worth, days * people)
 
     def shows_stuck(self, limits, ways):
-        self.assertIs(ways.__class__, list)
-        self.assertIn(len(ways), (1, 2))
-        self.assertTrue(all(len(way) <= 2000 for way in ways))
-        told = [turns_and_value(limits, way) for way in ways]
-        if len(ways) == 1:
-            self.assertEqual(told[0][0], 0)
-            self.assertGreater(told[0][1], 0)
-            return
-        (forth, needed), (back, allowed) = told
-        self.assertTrue(forth > 0 > back)
-        self.assertGreater(-(-needed // forth), allowed // back)
+        self.shows(limits, ways, lambda least, most: ceil(least) > floor(most))
 
     def shows_never(self, limits, ways):
+        self.shows(limits, ways, lambda least, most: least > most)
+
+    def shows(self, limits, ways, is_beyond):
+        """Checks a list of ways: one that goes nowhere, or two whose quotients leave nothing."""
         self.assertIs(ways.__class__, list)
         self.assertIn(len(ways), (1, 2))
         self.assertTrue(all(len(way) <= 2000 for way in ways))
@@ -246,7 +241,7 @@ class HouseCase(Case):
             return
         (forth, needed), (back, allowed) = told
         self.assertTrue(forth > 0 > back)
-        self.assertGreater(Fraction(needed, forth), Fraction(allowed, back))
+        self.assertTrue(is_beyond(Fraction(needed, forth), Fraction(allowed, back)))
 
     def raised(self, error, act):
         """The error that act raises, which is just of this class."""

@@ -4,7 +4,7 @@ import doctest
 import unittest
 from pathlib import Path
 
-EXAMPLES = """
+EXAMPLES = r"""
 >>> from hourneeds.clocks import Clock
 >>> falling = Clock([3, 2, 1])
 >>> [falling.widths(), falling.served(1), falling.serving(2), falling[0], list(falling)]
@@ -66,6 +66,13 @@ EXAMPLES = """
 >>> ever = Endless(packed, (3, 2))
 >>> [[ever(hour) for hour in range(-3, 6)], ever.sum_to(-3), ever(10 ** 30), ever.period, list(ever.plan())]
 [[0, 1, 0, 1, 0, 1, 0, 1, 0], -1, 1, 2, [1, 0, 1, 0, 1, 0]]
+>>> from hourneeds.desk import Desk
+>>> from hourneeds.notation import show_house, show_way
+>>> [show_house(packed), show_way(needed)]
+['clock 2 2 2\nneeds 1 1 1\nrooms 1 1 1\n', 'need 0, need 2, need 1']
+>>> desk = Desk(house)
+>>> [desk.execute(line) for line in ["people", "need 0 3", "people", "back", "plan", "there 1", "pace", "door 9 1"]]
+['2 -', 'ok', '3 -', 'need 0 3', '1 1 0', '1 2', '3/2 -', 'refused']
 """
 
 
