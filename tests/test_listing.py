@@ -54,6 +54,54 @@ class Small(HouseCase):
         self.assertEqual(count_plans(House(Clock.even(5, 3), Needs([0] * 5)), 6), 210)
 
 
+class GreatestSizes(HouseCase):
+    free = [3] * 5, [0] * 5, [None] * 5, [0] * 5, [None] * 5
+    some = [3, 2, 3, 4, 3], [1, 2, 0, 3, 1], [6, 5, None, None, 5], [0, 1, 0, 0, 0], [None, 4, 3, None, None]
+    none = [3] * 5, [4] * 5, [3] * 5, [0] * 5, [None] * 5
+
+    def check(self, limits, people, many):
+        house, expected = made(limits), plans_of(limits, people)
+        self.assertEqual([len(expected), count_plans(house, people)], [many, many])
+        self.assertEqual([list(plan_at(house, people, number)) for number in range(many)], expected)
+        self.assertEqual([plan_number(house, people, Plan(begins)) for begins in expected], list(range(many)))
+        for number in range(many, many + 240):
+            self.raises(NoNumber, lambda: plan_at(house, people, number), index=number)
+        for begins in all_begins(5, people):
+            if begins not in expected:
+                self.raises(Unfit, lambda: plan_number(house, people, Plan(begins)))
+
+    def test_each_index_and_each_plan_of_five_hours_and_six_people(self):
+        self.check(self.free, 6, 210)
+        self.check(self.some, 6, 29)
+        self.check(self.none, 6, 0)
+
+    def test_fewer_people(self):
+        for people, many in ((5, 126), (1, 5), (0, 1)):
+            self.check(self.free, people, many)
+        for limits in (self.some, self.none):
+            for people in range(6):
+                self.check(limits, people, len(plans_of(limits, people)))
+
+    def test_limits_drawn_for_five_hours(self):
+        for limits in list(small_limits(101, 100, most_hours=5))[4::5]:
+            self.check(limits, 6, len(plans_of(limits, 6)))
+
+    def test_limits_that_are_great(self):
+        great = 10 ** 30
+        limits = [2, 3, 3, 3, 3], [0, 1, 0, 1, 0], [great, 5, great, None, great], [0, 0, 1, 0, 0], [great] * 5
+        self.check(limits, 6, len(plans_of(limits, 6)))
+        self.assertGreater(count_plans(made(limits), 6), 20)
+        self.check((limits[0], [0, great, 0, 0, 0], *limits[2:]), 6, 0)
+
+    def test_one_hour_and_two(self):
+        for hours in (1, 2):
+            for people in range(7):
+                house = House(Clock.even(hours, 1), Needs([0] * hours))
+                self.assertEqual(count_plans(house, people), 1 if hours == 1 else people + 1)
+                for number in range(count_plans(house, people), 20):
+                    self.raises(NoNumber, lambda: plan_at(house, people, number), index=number)
+
+
 class NoPlan(HouseCase):
     def test_a_house_that_has_no_plan(self):
         for limits in (even_limits(3, 2, 1, room=1), even_limits(1, 1, 2, room=1), even_limits(5, 2, 10 ** 30, room=0),
