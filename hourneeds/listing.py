@@ -73,15 +73,15 @@ def _asked(house, people):
     """
     hours = house.hours
     # From mark 0 up to a day later the sums never fall.
-    more = [[0 if first <= last else -people for last in range(hours)] for first in range(hours)]
+    more = [[0 if mark <= later else -people for later in range(hours)] for mark in range(hours)]
     for first, last, days, number, _ in links_of(house):
         more[first][last] = max(more[first][last], number - days * people)
     for middle in range(hours):
         behind = more[middle]
-        more = [[max(number, row[middle] + added) for number, added in zip(row, behind)] for row in more]
+        more = [[max(straight, row[middle] + added) for straight, added in zip(row, behind)] for row in more]
     if max([more[mark][mark] for mark in range(hours)]) > 0:
         return None
-    return [([more[first][mark] for first in range(mark)], more[mark][:mark]) for mark in range(hours)]
+    return [([row[mark] for row in more[:mark]], more[mark][:mark]) for mark in range(hours)]
 
 
 def _left(asked, sums):

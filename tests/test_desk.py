@@ -210,12 +210,13 @@ class NoCommands(HouseCase):
         self.no_command([0, 1, ("need", 0, 3), ["need 0 3"], ("people",), ["people"], b"people", {"people": 1}, *odd_values()])
 
     def test_words_left_out_doubled_or_exchanged(self):
-        self.no_command(["", " ", "need", "need 0", "need 0 3 1", "need need 0 3", "0 need 3", "need 0 3 need", "0 3", "0 3 need",
-                         "room", "room 0", "keep 1", "door 2", "stay 0", "begins", "begins 0 1", "there", "there 0 1", "back 1",
-                         "back back", "again 0", "people 2", "plan 0", "late 0", "pace 0", "often 0", "house 0", "house house",
-                         "begins begins 0", "0 begins", "deed 0 1", "needs 0 1", "rooms 0 1", "kept 0 1", "doors 0 1", "clock 0 1",
-                         "Need 0 1", "NEED 0 1", "nee 0 1", "peopl", "peoples", "People", "log", "earliest", "latest", "early",
-                         "begin 0", "begins all", "need a 1", "need 0 a", "need zero 1"])
+        self.no_command(["", " ", "need", "need 0", "need 0 3 1", "need need 0 3", "0 need 3", "need 0 3 need", "0 3",
+                         "0 3 need", "room", "room 0", "keep 1", "door 2", "stay 0", "begins", "begins 0 1", "there",
+                         "there 0 1", "back 1", "back back", "again 0", "people 2", "plan 0", "late 0", "pace 0", "often 0",
+                         "house 0", "house house", "begins begins 0", "0 begins", "deed 0 1", "needs 0 1", "rooms 0 1",
+                         "kept 0 1", "doors 0 1", "clock 0 1", "Need 0 1", "NEED 0 1", "nee 0 1", "peopl", "peoples",
+                         "People", "log", "earliest", "latest", "early", "begin 0", "begins all", "need a 1", "need 0 a",
+                         "need zero 1"])
 
     def test_noughts_ahead_and_other_numbers(self):
         for word in ("need", "room", "keep", "door", "stay"):

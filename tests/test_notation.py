@@ -10,7 +10,7 @@ from hourneeds.notation import show_clock, show_fraction, show_house, show_needs
 from hourneeds.people import stuck
 from hourneeds.plans import Plan
 from hourneeds.ways import ring_way, steps
-from helpers import GREAT, Case, drawn_clock, drawn_row
+from helpers import GREAT, Case, drawn_clock
 from house_helpers import FORTY, even_limits, great_limits, limits_of, made, small_limits
 
 

@@ -86,7 +86,8 @@ class Fewest(HouseCase):
         self.assertGreater(bound(clock, needs, context.exception.ring), people - 1)
         # The least pace is shown by a way that no ring is above.
         shown = pace_way(house)
-        self.assertGreaterEqual(Fraction(value(house, shown), turns(house, shown)), Fraction(value(house, way), turns(house, way)))
+        least = Fraction(value(house, shown), turns(house, shown))
+        self.assertGreaterEqual(least, Fraction(value(house, way), turns(house, way)))
 
     def test_from_all_sides(self):
         source = Random(221)
